@@ -1,0 +1,1 @@
+"""Sideturn: programs as grids of makers and askers, told from either side."""
