@@ -173,14 +173,13 @@ def faults_of_names(tree):
     return faults
 
 
-def faults_of_calls(tree):
+def faults_of_calls(tree, own):
     """L23, L24, L25: Python's own methods, and what is walked on the spot."""
     faults = []
-    own = [node.name for node in ast.walk(tree) if isinstance(node, ast.FunctionDef)]
     parents = {child: node for node in ast.walk(tree) for child in ast.iter_child_nodes(node)}
     for node in ast.walk(tree):
         if isinstance(node, ast.Attribute) and isinstance(parents[node], ast.Call) and parents[node].func is node:
-            if node.attr not in METHODS + own + ["__init__"]:
+            if node.attr not in METHODS + ["__init__"] and node.attr not in own:
                 faults.append(("L25", node.lineno))
         if not isinstance(node, ast.Call):
             continue
@@ -272,7 +271,7 @@ def faults_of_tops_changed(tree):
     return faults
 
 
-def faults_of_file(text, package):
+def faults_of_file(text, package, own_methods):
     tree = ast.parse(text)
     faults = faults_of_text(text)
     docs = tree.body[0] if tree.body and isinstance(tree.body[0], ast.Expr) else None
@@ -280,8 +279,9 @@ def faults_of_file(text, package):
         fault = None if node is docs else faults_of_node(node)
         if fault:
             faults.append((fault, getattr(node, "lineno", 0)))
-    for part in (faults_of_names, faults_of_calls, faults_of_walks, faults_of_tops_changed):
+    for part in (faults_of_names, faults_of_walks, faults_of_tops_changed):
         faults.extend(part(tree))
+    faults.extend(faults_of_calls(tree, own_methods))
     faults.extend(faults_of_top(tree, package))
     return faults
 

@@ -47,11 +47,12 @@ class Language(unittest.TestCase):
 
     def test_the_rules_are_seen_when_broken(self):
         for text, rule in BROKEN:
-            self.assertIn(rule, [fault[0] for fault in language.faults_of_file(text, "sideturn")], msg=text)
+            self.assertIn(rule, [fault[0] for fault in language.faults_of_file(text, "sideturn", ())], msg=text)
 
     def test_each_file_keeps_to_the_rules(self):
+        methods = language.methods_and_values(self.texts.values())[0]
         for name, text in self.texts.items():
-            self.assertEqual(language.faults_of_file(text, "sideturn"), [], msg=name)
+            self.assertEqual(language.faults_of_file(text, "sideturn", methods), [], msg=name)
 
     def test_only_plainly_named_files_lie_in_the_package(self):
         for path in PACKAGE.iterdir():

@@ -1,0 +1,66 @@
+"""The grid that a program tells, whichever side its kinds are told from."""
+
+
+def makers_in(kind):
+    if kind[0] == "made":
+        return kind[2]
+    return tuple([(table[0], table[1]) for table in kind[3]])
+
+
+def askers_in(kind):
+    if kind[0] == "asked":
+        return kind[2]
+    return tuple([(function[0], function[1], function[2]) for function in kind[3]])
+
+
+# The first kind that is called so, None where there is none.
+def kind_called(program, name):
+    for kind in program:
+        if kind[1] == name:
+            return kind
+    return None
+
+
+def makers_of(program, name):
+    kind = kind_called(program, name)
+    return () if kind is None else makers_in(kind)
+
+
+def askers_of(program, name):
+    kind = kind_called(program, name)
+    return () if kind is None else askers_in(kind)
+
+
+def side_of(program, name):
+    kind = kind_called(program, name)
+    return None if kind is None else kind[0]
+
+
+def kind_of_maker(program, maker):
+    for kind in program:
+        if maker in [one[0] for one in makers_in(kind)]:
+            return kind[1]
+    return None
+
+
+def kind_of_asker(program, asker):
+    for kind in program:
+        if asker in [one[0] for one in askers_in(kind)]:
+            return kind[1]
+    return None
+
+
+# A def or tab as (its name, its rows).
+def tables_in(kind):
+    return [(table[0], table[-1]) for table in kind[3]]
+
+
+def cell(program, maker, asker):
+    for kind in program:
+        table_name, row_name = (asker, maker) if kind[0] == "made" else (maker, asker)
+        for name, rows in tables_in(kind):
+            if name == table_name:
+                for told, term in rows:
+                    if told == row_name:
+                        return term
+    return None
