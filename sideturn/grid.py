@@ -64,3 +64,22 @@ def cell(program, maker, asker):
                     if told == row_name:
                         return term
     return None
+
+
+# Each kind with the number of its row in the text.
+def numbered_kinds(program):
+    numbered = []
+    row = 0
+    for kind in program:
+        numbered.append((row, kind))
+        row = row + 1 + len(kind[3])
+    return numbered
+
+
+# Each def and tab with the number of its row in the text, and its kind.
+def numbered_tables(program):
+    numbered = []
+    for row, kind in numbered_kinds(program):
+        for number, table in enumerate(kind[3], start=row + 1):
+            numbered.append((number, kind, table))
+    return numbered

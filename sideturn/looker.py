@@ -1,27 +1,9 @@
 """Programs looked through: True, or the first thing amiss refused."""
 
 from sideturn.errors import NoProgram, NoTerm
+from sideturn.grid import numbered_kinds, numbered_tables
 from sideturn.termlooker import Heads, asker_columns, kind_of_term, maker_columns
 from sideturn.terms import is_plain
-
-
-# Each kind with the number of its row in the text.
-def numbered_kinds(program):
-    numbered = []
-    row = 0
-    for kind in program:
-        numbered.append((row, kind))
-        row = row + 1 + len(kind[3])
-    return numbered
-
-
-# Each def and tab with the number of its row in the text, and its kind.
-def numbered_tables(program):
-    numbered = []
-    for row, kind in numbered_kinds(program):
-        for number, table in enumerate(kind[3], start=row + 1):
-            numbered.append((number, kind, table))
-    return numbered
 
 
 # Looks through makers and askers one by one, keeping those gone through.
