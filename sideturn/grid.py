@@ -83,3 +83,12 @@ def numbered_tables(program):
         for number, table in enumerate(kind[3], start=row + 1):
             numbered.append((number, kind, table))
     return numbered
+
+
+# All cells of a kind as (maker, asker, term), as its defs or tabs tell them.
+def cells_told(kind):
+    told = []
+    for name, rows in tables_in(kind):
+        for row_name, term in rows:
+            told.append((row_name, name, term) if kind[0] == "made" else (name, row_name, term))
+    return told

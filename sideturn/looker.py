@@ -2,8 +2,7 @@
 
 from sideturn.errors import NoProgram, NoTerm
 from sideturn.grid import numbered_kinds, numbered_tables
-from sideturn.termlooker import Heads, asker_columns, kind_of_term, maker_columns
-from sideturn.terms import is_plain
+from sideturn.termlooker import Heads, asker_columns, kind_of_plain_term, kind_of_term, maker_columns
 
 
 # Looks through makers and askers one by one, keeping those gone through.
@@ -85,9 +84,7 @@ def look(program):
 
 
 def look_term(program, term):
-    if not is_plain(term):
-        raise NoTerm()
     try:
-        return kind_of_term(Heads(program), 0, term, {})
+        return kind_of_plain_term(Heads(program), term)
     except NoProgram:
         raise NoTerm() from None

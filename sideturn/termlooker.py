@@ -25,11 +25,21 @@ class Heads:
     def is_told_by(self, side, kind):
         return kind in self.kinds and self.kinds[kind][0] == side
 
+    def side_of_maker(self, maker):
+        return self.kinds[self.makers[maker][0]][0]
 
+    # The names that are bound in a cell, with their kinds.
+    def bound_in_cell(self, maker, asker):
+        return self.makers[maker][1] + self.askers[asker][1]
+
+
+# Terms from outside of a program may be asked to be plain: then inner tables
+# are refused, too, by a word that is told to no one.
 class TermLook:
-    def __init__(self, heads, row):
+    def __init__(self, heads, row, tables_let):
         self.heads = heads
         self.text_row = row
+        self.tables_let = tables_let
         self.ahead = []
         self.done = []
 
@@ -111,10 +121,14 @@ def look_ask(look, term, bound):
 
 
 def look_case(look, term, bound):
+    if not look.tables_let:
+        look.refuse("table")
     look.plan([("term", term[1], bound), ("case", term[2], term[3], bound)])
 
 
 def look_new(look, term, bound):
+    if not look.tables_let:
+        look.refuse("table")
     kind = term[1]
     if kind not in look.heads.kinds:
         look.refuse("unknown")
@@ -219,10 +233,18 @@ TASKS = {
 }
 
 
-def kind_of_term(heads, row, term, bound):
-    look = TermLook(heads, row)
+def looked_through(look, term, bound):
     look.plan([("term", term, bound)])
     while look.ahead:
         task = look.ahead.pop()
         TASKS[task[0]](look, task)
     return look.take_kind()
+
+
+def kind_of_term(heads, row, term, bound):
+    return looked_through(TermLook(heads, row, True), term, bound)
+
+
+# The kind of a term that must be plain and closed.
+def kind_of_plain_term(heads, term):
+    return looked_through(TermLook(heads, 0, False), term, {})

@@ -1,6 +1,6 @@
 """Terms, walked part by part, and the inner tables of programs."""
 
-from sideturn.grid import numbered_tables
+from sideturn.grid import numbered_kinds, numbered_tables
 
 INNER_TABLES = ("case", "new")
 
@@ -109,3 +109,86 @@ def inner_tables(program):
 
 def is_flat(program):
     return not inner_tables(program)
+
+
+def rows_with(rows, terms):
+    return tuple([(name, names, term) for (name, names, old), term in zip(rows, terms)])
+
+
+# The term with others in the place of those that stand right in it.
+def with_terms(term, terms):
+    word = term[0]
+    if word in ("op", "let"):
+        return (word, term[1]) + tuple(terms)
+    if word == "zero":
+        return (word,) + tuple(terms)
+    if word == "make":
+        return (word, term[1], tuple(terms))
+    if word == "ask":
+        return (word, terms[0], term[2], tuple(terms[1:]))
+    if word == "case":
+        return (word, terms[0], term[2], rows_with(term[3], terms[1:]))
+    if word == "new":
+        return (word, term[1], rows_with(term[2], terms))
+    return term
+
+
+# A term made anew from within. The scope is handed inward: enter tells, by a
+# part and its scope, the terms right in it that are gone into, with their
+# scopes; build makes the new part by the part, its scope and these made anew.
+def remade(term, scope, enter, build):
+    done = []
+    ahead = [(term, scope, None)]
+    while ahead:
+        part, around, many = ahead.pop()
+        if many is None:
+            inside = enter(part, around)
+            ahead.append((part, around, len(inside)))
+            ahead.extend([(one, within, None) for one, within in inside[::-1]])
+        else:
+            terms = [done.pop() for k in range(many)][::-1]
+            done.append(build(part, around, terms))
+    return done.pop()
+
+
+# A placed term is one whose inner tables bear two things more: their places
+# and the names they take. So a table that runs tells its place by itself.
+def placed_term(term, row, first):
+    number = first
+    done = []
+    ahead = [(term, None)]
+    while ahead:
+        part, place = ahead.pop()
+        if place is None:
+            ahead.append((part, (row, number)))
+            ahead.extend([(one, None) for one in terms_within(part)[::-1]])
+            number = number + (1 if is_table(part) else 0)
+        else:
+            made = with_terms(part, [done.pop() for one in terms_within(part)][::-1])
+            done.append(made + (place, taken_names(part)) if is_table(part) else made)
+    return (done.pop(), number)
+
+
+def placed_table(table, row):
+    number = 0
+    rows = []
+    for name, term in table[-1]:
+        placed, number = placed_term(term, row, number)
+        rows.append((name, placed))
+    return table[:-1] + (tuple(rows),)
+
+
+def placed_program(program):
+    kinds = []
+    for row, kind in numbered_kinds(program):
+        tables = [placed_table(table, number) for number, table in enumerate(kind[3], start=row + 1)]
+        kinds.append(kind[:3] + (tuple(tables),))
+    return tuple(kinds)
+
+
+def place_of(table):
+    return table[-2]
+
+
+def names_taken_by(table):
+    return table[-1]

@@ -20,6 +20,10 @@ def told_of(value, of_number, of_thing):
     return done.pop()
 
 
+def number_itself(number):
+    return number
+
+
 def none_of(number):
     return 0
 

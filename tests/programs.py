@@ -45,10 +45,15 @@ def program_of(text):
 
 
 class Grown:
-    """A program that is let by, of kinds, makers and askers by chance."""
+    """A program that is let by, of kinds, makers and askers by chance, with inner tables or without.
 
-    def __init__(self, chance):
+    Where names are few, fields, params and other names of values are often called alike.
+    """
+
+    def __init__(self, chance, with_tables=True, few_names=False):
         self.chance = chance
+        self.with_tables = with_tables
+        self.few_names = few_names
         self.kinds = [(pick(chance, ("made", "asked")), "pqrst"[k]) for k in range(1 + chance.randrange(4))]
         self.makers = {name: self.heads(name, "m") for side, name in self.kinds}
         self.askers = {name: [head + (self.kind(),) for head in self.heads(name, "f")] for side, name in self.kinds}
@@ -60,14 +65,23 @@ class Grown:
     def heads(self, kind, letter):
         told = []
         for k in range(self.chance.randrange(4)):
-            pairs = [(letter + kind + "abcde"[j], self.kind()) for j in range(self.chance.randrange(3))]
+            pairs = [(self.head_name(kind, letter, j), self.kind()) for j in range(self.chance.randrange(3))]
             told.append((kind + letter + "abcde"[k], tuple(pairs)))
         return told
 
-    def new_names(self, pairs):
+    def head_name(self, kind, letter, j):
+        if not self.few_names:
+            return letter + kind + "abcde"[j]
+        return ("abc" if (letter == "m") == (kind in "prt") else "xyz")[j]
+
+    def new_names(self, pairs, bound):
         letters = "abcdefghijklmnopqrstuvwxyz"
         told = []
         for k in range(len(pairs)):
+            few = [name for name in "abcxyz" if name not in bound and name not in told]
+            if self.few_names and few:
+                told.append(pick(self.chance, few))
+                continue
             self.fresh += 1
             told.append("v" + "".join(letters[self.fresh // many % 26] for many in (676, 26, 1)))
         return tuple(told)
@@ -110,6 +124,23 @@ class Grown:
         told = tuple(self.term(kind, bound, deep) for name, kind in pairs) if deep >= 0 or not pairs else (None,)
         return None if None in told else told
 
+    def plain_term(self, kind, deep):
+        """A plain closed term of this kind, or None where none was found."""
+        with_tables, self.with_tables = self.with_tables, False
+        term = self.term(kind, {}, deep)
+        self.with_tables = with_tables
+        return term
+
+    def asking_terms(self, many):
+        """Plain closed terms that are asks, as many as were found."""
+        askers = [(kind, head) for kind in self.askers for head in self.askers[kind]]
+        terms = []
+        for k in range(many if askers else 0):
+            kind, (asker, params, result) = pick(self.chance, askers)
+            terms.append([self.plain_term(one, 3) for one in [kind] + [param[1] for param in params]])
+            terms[-1] = None if None in terms[-1] else ("ask", terms[-1][0], asker, tuple(terms[-1][1:]))
+        return [term for term in terms if term is not None]
+
     def by_name(self, kind, bound, deep):
         names = [name for name in bound if bound[name] == kind]
         return ("name", pick(self.chance, names)) if names else None
@@ -119,7 +150,7 @@ class Grown:
             if deep < 0 or not self.chance.randrange(3):
                 return ("num", self.chance.randrange(9))
             return ("op", pick(self.chance, "+-*"), self.term(kind, bound, deep), self.term(kind, bound, deep))
-        if (("asked", kind) in self.kinds) and self.chance.randrange(2):
+        if self.with_tables and ("asked", kind) in self.kinds and self.chance.randrange(2):
             return ("new", kind, self.rows(self.askers[kind], bound, deep))
         if not self.makers[kind]:
             return None
@@ -133,7 +164,7 @@ class Grown:
 
     def by_let(self, kind, bound, deep):
         other = self.kind()
-        name = self.new_names(((),))[0]
+        name = self.new_names(((),), bound)[0]
         one, two = self.term(other, bound, deep), self.term(kind, {**bound, name: other}, deep)
         return None if one is None or two is None else ("let", name, one, two)
 
@@ -147,7 +178,7 @@ class Grown:
 
     def by_case(self, kind, bound, deep):
         kinds = [name for side, name in self.kinds if side == "made"]
-        if not kinds:
+        if not kinds or not self.with_tables:
             return None
         cased = pick(self.chance, kinds)
         thing = self.term(cased, bound, deep)
@@ -157,7 +188,7 @@ class Grown:
     def rows(self, wanted, bound, deep):
         told = []
         for name, pairs, kind in wanted if deep >= 0 else []:
-            names = self.new_names(pairs)
+            names = self.new_names(pairs, bound)
             inside = {**bound, **dict(zip(names, [pair[1] for pair in pairs]))}
             term = self.term(kind, inside, deep)
             if term is not None and self.chance.randrange(5):
