@@ -2,19 +2,14 @@
 
 What is still to be done is kept on a stack, the next task on top, and the
 things that are done on another, in the place of calls within calls: asks may
-wait for one another deeper than Python lets calls go. A thing is a value with
-its size, how deep it is, and the things of its parts, so that nothing needs to
-be counted again.
+wait for one another deeper than Python lets calls go.
 """
 
 from sideturn.grid import cells_told
 from sideturn.looker import look_term
 from sideturn.termlooker import Heads
 from sideturn.terms import inner_rows, is_table, names_taken_by, parts, place_of, placed_program
-
-NUMBERS = 1000000
-GREATEST_SIZE = 200
-GREATEST_DEEP = 60
+from sideturn.values import thing_made, thing_of_number, thing_of_op
 
 
 # A term being done: till a step is due, (its cell, the names bound around it,
@@ -34,17 +29,12 @@ class Doing:
     def take_things(self, many):
         return [self.done.pop() for k in range(many)][::-1]
 
-    def tell_number(self, number):
-        self.done.append((number, 0, 0, ()))
-
     def tell_made(self, word, name, things):
-        size = 1 + sum([thing[1] for thing in things])
-        deep = 1 + max([thing[2] for thing in things], default=0)
-        if size > GREATEST_SIZE or deep > GREATEST_DEEP:
+        thing = thing_made(word, name, things)
+        if thing is None:
             self.ending = ("great", name)
         else:
-            value = (word, name, tuple([thing[0] for thing in things]))
-            self.done.append((value, size, deep, tuple(things)))
+            self.done.append(thing)
 
 
 def begin_name(doing, term, bound):
@@ -52,7 +42,7 @@ def begin_name(doing, term, bound):
 
 
 def begin_num(doing, term, bound):
-    doing.tell_number(term[1])
+    doing.done.append(thing_of_number(term[1]))
 
 
 def begin_op(doing, term, bound):
@@ -105,13 +95,8 @@ def do_term(doing, task):
 
 
 def do_op(doing, task):
-    one, other = [thing[0] for thing in doing.take_things(2)]
-    if task[1] == "+":
-        doing.tell_number((one + other) % NUMBERS)
-    elif task[1] == "-":
-        doing.tell_number((one - other) % NUMBERS)
-    else:
-        doing.tell_number(one * other % NUMBERS)
+    one, other = doing.take_things(2)
+    doing.done.append(thing_of_op(task[1], one, other))
 
 
 def do_zero(doing, task):

@@ -1,4 +1,12 @@
-"""Values: how great they are, and how deep."""
+"""Values: how great they are, and how deep, and how runs make them.
+
+Runs keep a value as a thing: the value with its size, how deep it is, and the
+things of its parts, so that nothing needs to be counted again.
+"""
+
+NUMBERS = 1000000
+GREATEST_SIZE = 200
+GREATEST_DEEP = 60
 
 
 # What comes of a value from within: of each number what of_number tells,
@@ -42,3 +50,25 @@ def size(value):
 
 def deep(value):
     return told_of(value, none_of, deep_of_thing)
+
+
+def thing_of_number(number):
+    return (number, 0, 0, ())
+
+
+# None where the value would be too great.
+def thing_made(word, name, things):
+    many = size_of_thing(word, name, [thing[1] for thing in things])
+    within = deep_of_thing(word, name, [thing[2] for thing in things])
+    if many > GREATEST_SIZE or within > GREATEST_DEEP:
+        return None
+    value = (word, name, tuple([thing[0] for thing in things]))
+    return (value, many, within, tuple(things))
+
+
+def thing_of_op(sign, one, other):
+    if sign == "+":
+        return thing_of_number((one[0] + other[0]) % NUMBERS)
+    if sign == "-":
+        return thing_of_number((one[0] - other[0]) % NUMBERS)
+    return thing_of_number(one[0] * other[0] % NUMBERS)
