@@ -46,11 +46,11 @@ def with_asker(kind, edit):
 
 
 # The kind with the rows of the cell's def or tab as change tells them, by
-# these rows and the cell's name there.
+# these rows and the cell's name there. A row of a name that isn't there is
+# seen when the whole is looked through.
 def with_cell_changed(kind, maker, asker, change):
     table_name, row_name = (asker, maker) if kind[0] == "made" else (maker, asker)
     need(table_name in [table[0] for table in kind[3]])
-    need(row_name in [head[0] for head in kind[2]])
     tables = []
     for table in kind[3]:
         tables.append(with_rows(table, change(table[-1], row_name)) if table[0] == table_name else table)

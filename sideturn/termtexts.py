@@ -38,10 +38,10 @@ def terms_in(items):
     return tuple([term_in(item) for item in items])
 
 
-def parted(items):
+def parted(items, sign="|"):
     groups = [[]]
     for item in items:
-        if item == "|":
+        if item == sign:
             groups.append([])
         else:
             groups[-1].append(item)

@@ -67,17 +67,24 @@ def told_in(kind):
     return told
 
 
-# Kinds are taken as they stand, not by their names: in a program that isn't
-# let by, two may be called alike and a name be told in both.
-def crossings(program):
-    crossed = []
+# How many parts of each kind's cells make by a maker, or ask by an asker, of
+# each kind. Kinds are taken as they stand, not by their names: in a program
+# that isn't let by, two may be called alike and a name be told in both.
+def uses_between(program):
+    told = []
     names = [told_in(kind) for kind in program]
     for kind in program:
         uses = uses_in(kind)
-        for other, told in zip(program, names):
-            many = sum([uses.get(use, 0) for use in told])
-            if kind[0] != other[0] and many > 0:
-                crossed.append((kind[1], other[1], many))
+        for other, others in zip(program, names):
+            told.append((kind, other, sum([uses.get(use, 0) for use in others])))
+    return told
+
+
+def crossings(program):
+    crossed = []
+    for kind, other, many in uses_between(program):
+        if kind[0] != other[0] and many > 0:
+            crossed.append((kind[1], other[1], many))
     return crossed
 
 
@@ -85,8 +92,13 @@ def cross_rows(program):
     return [f"cross {kind} {other} {many}" for kind, other, many in crossings(program)]
 
 
+# The rows of a kind itself: its own, its defs or tabs.
+def rows_of_kind(kind):
+    return made_rows(kind) if kind[0] == "made" else asked_rows(kind)
+
+
 def shown(program):
     rows = []
     for kind in program:
-        rows.extend(made_rows(kind) if kind[0] == "made" else asked_rows(kind))
+        rows.extend(rows_of_kind(kind))
     return "\n".join(rows + cross_rows(program))

@@ -2,6 +2,7 @@
 
 import programs
 from samples import any_term, pick
+from sideturn.edits import edited
 
 
 def grid_of(program):
@@ -109,3 +110,17 @@ class Editing:
             ("asker", kind, pick(self.chance, (asker, self.name())), fields, pick(self.chance, kinds + ["number", "x"]), rows(makers)),
             ("cell", kind, maker, asker, term()), ("gone", kind, maker, asker),
         ))
+
+
+def edits_by_chance(chance):
+    """A flat program and edits of it, at most 8, that are let by one behind the other."""
+    grown = programs.Grown(chance, with_tables=False)
+    first = program = grown.program()
+    editing = Editing(chance, grown)
+    edits = []
+    for j in range(chance.randrange(9)):
+        edit = editing.fit(program)
+        if edit is not None:
+            program = edited(program, edit)
+            edits.append(edit)
+    return first, tuple(edits)

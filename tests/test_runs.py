@@ -195,6 +195,17 @@ class Great(unittest.TestCase):
         self.assertEqual(self.great(f"(make two (make leaf) {of_deep(60)})"), (("great", "two"), [], 0))
         self.assertEqual(self.great(f"(make of {of_deep(60)})"), (("great", "of"), [], 0))
 
+    def test_numbers_count_nothing(self):
+        program = programs.program_of("made tree | leaf m number n number | one t tree n number | two a tree b tree")
+        numbers = {"leaf": (("num", 3), ("num", 4)), "one": (("num", 5),), "two": ()}
+
+        def with_numbers(term):
+            return ("make", term[1], tuple(with_numbers(one) for one in term[2]) + numbers[term[1]])
+
+        for text, bound in ((of_deep, 60), (of_size, 200)):
+            self.assertEqual(ran(program, with_numbers(read_term(text(bound))), 0)[0][0], "answer")
+            self.assertEqual(ran(program, with_numbers(read_term(text(bound + 1))), 0)[0][0], "great")
+
     def test_the_first_that_is_too_great_is_told(self):
         self.assertEqual(self.great(f"(make two (make leaf) (make one {of_size(200)}))"), (("great", "one"), [], 0))
         self.assertEqual(self.great(f"(make one {of_size(300)})"), (("great", "two"), [], 0))

@@ -1,15 +1,29 @@
-"""A program's run, the rewriting, and the runs of the lifted and of turned programs, held against one another."""
+"""What the document promises over the whole program.
+
+A program's run, the rewriting, the code, and those of the lifted, of turned, of edited programs, held against one another.
+"""
 
 import random
 import unittest
 
 import longer
 import programs
+from counting import all_sides, flow_faults
+from editing import Editing, edits_by_chance
+from sideturn.coder import code_of
+from sideturn.desk import answered
+from sideturn.edits import edited
 from sideturn.lifting import lifted, lifted_end, lifted_value
+from sideturn.machine import Machine
+from sideturn.net import bonds
+from sideturn.reader import read
 from sideturn.rewriting import rewritten
 from sideturn.runs import Run, ran
-from sideturn.termtexts import read_term
+from sideturn.sides import chosen
+from sideturn.termtexts import read_term, show_term
+from sideturn.touched import touched_by
 from sideturn.turning import in_order, turned, turned_value
+from sideturn.writer import shown
 
 
 def turned_end(program, kinds, end):
@@ -44,19 +58,34 @@ class Whole(unittest.TestCase):
         if len(cells) <= 30 and end is not None:
             self.assertEqual(rewritten(program, term), end)
 
+    def code_held(self, program, term, told):
+        """Jump by jump the cells, and the end, as the run told them."""
+        machine = Machine(program, code_of(program, term))
+        for k, (cells, waiting, end) in enumerate(told):
+            self.assertIs(machine.go(min(k, 1)), end is not None)
+            self.assertEqual((machine.cells(), machine.jumps(), machine.end()), (cells, k, end))
+
+    def flat_held(self, program, term, told):
+        """All ways in which a flat program is run, and it written and read again."""
+        self.assertEqual(self.stages(program, term, len(told) - 1), told)
+        self.rewriting_held(program, term, told)
+        self.code_held(program, term, told)
+        self.assertEqual(read(shown(program)), program)
+
     def held(self, chance, program, term, most):
+        self.assertEqual(read(shown(program)), program)
         told = self.stages(program, term, most)
         flat, names = lifted(program)
-        read = [([(names.get(maker, maker), names.get(asker, asker)) for maker, asker in cells], waiting, lifted_end(names, end))
-                for cells, waiting, end in told]
-        self.assertEqual(self.stages(flat, term, most), read)
-        self.rewriting_held(flat, term, read)
+        lifted_told = [([(names.get(maker, maker), names.get(asker, asker)) for maker, asker in cells], waiting, lifted_end(names, end))
+                       for cells, waiting, end in told]
+        self.assertEqual(self.stages(flat, term, most), lifted_told)
+        self.flat_held(flat, term, lifted_told)
         for kinds in (some_kinds(chance, flat), tuple(kind[1] for kind in flat)):
             other = turned(flat, kinds)
-            turned_read = [(cells, waiting, turned_end(flat, kinds, end)) for cells, waiting, end in read]
-            self.assertEqual(self.stages(other, term, most), turned_read)
-            self.rewriting_held(other, term, turned_read)
-            self.assertEqual(self.stages(turned(other, kinds), term, most), read)
+            turned_told = [(cells, waiting, turned_end(flat, kinds, end)) for cells, waiting, end in lifted_told]
+            self.assertEqual(self.stages(other, term, most), turned_told)
+            self.flat_held(other, term, turned_told)
+            self.assertEqual(self.stages(turned(other, kinds), term, most), lifted_told)
             self.assertEqual(turned(other, kinds), in_order(flat, kinds))
         steps = chance.randrange(most)
         end, many = ran(program, term, steps)
@@ -82,6 +111,50 @@ class Whole(unittest.TestCase):
                 if len(cells) > 1:
                     seen[sorts] = seen.get(sorts, 0) + 1
         self.assertGreater(min(seen.get(sorts, 0) for sorts in ("flat", "tables", "plain")), 30, msg=seen)
+
+    def test_edited_programs_by_chance(self):
+        chance = random.Random(64)
+        many = 0
+        for k in range(80):
+            grown = programs.Grown(chance, with_tables=k % 2 > 0)
+            program = lifted(grown.program())[0]
+            grown.with_tables = False
+            editing = Editing(chance, grown)
+            for j in range(4):
+                edit = editing.fit(program)
+                if edit is None:
+                    continue
+                kinds = some_kinds(chance, program)
+                behind = edited(program, edit)
+                self.assertEqual(turned(edited(turned(program, kinds), edit), kinds), in_order(behind, kinds))
+                program = behind
+                for term in grown.asking_terms(1):
+                    cells, waiting, end = self.held(chance, program, term, 15)
+                    many += len(cells) > 1
+                    self.desk_held(program, term, (end or ("late",), len(cells)))
+        self.assertGreater(many, 60)
+
+    def desk_held(self, program, term, told):
+        """The desk tells of the text what was told of the program, whatever was done to it ahead."""
+        (word, *rest), steps = told
+        names = " ".join(kind[1] for kind in program)
+        for text in (shown(program), answered(shown(program), "lift"), answered(shown(program), f"turn {names}")):
+            words = answered(text, f"run 15 {show_term(term)}").split(" ")
+            self.assertEqual((words[0], words[-2:]), (word, ["after", str(steps)]))
+            if word in ("fault", "great"):
+                self.assertEqual(words[1:-2], rest)
+
+    def test_prices_and_flows_of_edited_programs(self):
+        chance = random.Random(65)
+        for k in range(40):
+            program, edits = edits_by_chance(chance)
+            least, sides, flow = chosen(program, edits)
+            prices = [sum(touched_by(program, edits, some)) for some in all_sides(program)]
+            self.assertEqual((least, least), (min(prices), sum(touched_by(program, edits, sides))))
+            # whichever sides the program is told from ahead, the same price comes, and the flow shows it
+            other = turned(program, some_kinds(chance, program))
+            self.assertEqual(chosen(other, edits)[0], least)
+            self.assertEqual(flow_faults(bonds(other, edits), flow, least), [])
 
     def test_tables_as_deep_as_the_bounds(self):
         letters = "abcdefghijklmnopqrstuvwxyz"
